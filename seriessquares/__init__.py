@@ -1,0 +1,1 @@
+"""The table of fractions that fit a power series, and its squares."""
