@@ -1,7 +1,7 @@
 """What numbers are: exact fractions, or integers modulo a prime."""
 
 from math import isqrt
-from seriessquares.errors import NoField, NoNumber
+from seriessquares.errors import NoField, NoNumber, OtherField
 from seriessquares.kinds import is_an_integer
 from seriessquares.ratios import Ratio, as_ratio, is_number
 
@@ -14,6 +14,12 @@ def _is_prime(count):
         if count % divisor == 0:
             return False
     return True
+
+
+def check_same_field(one, other):
+    """Raise OtherField unless the two objects have equal fields."""
+    if one.field != other.field:
+        raise OtherField()
 
 
 def _inverse(number, prime):

@@ -16,3 +16,18 @@ def no_integers():
 def no_numbers():
     """Values that are neither integers nor Ratios."""
     return [value for value in no_integers() if not isinstance(value, Ratio)]
+
+
+def no_sequences():
+    """Values that are neither lists nor tuples, though some hold numbers."""
+    return [
+        None, True, False, 0, 1, 7, Ratio(1), "", "12", b"", b"12", {}, {0: 1, 1: 2}, {1, 2}, range(1, 3), object(),
+        list, len, Field(), SeriesError(), iter([1, 2]),
+    ]
+
+
+def refused_numbers(prime):
+    """Values that the field of the prime refuses as numbers."""
+    if prime == 0:
+        return no_numbers()
+    return [*no_numbers(), Ratio(1, prime), Ratio(-1, 11 * prime)]

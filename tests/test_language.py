@@ -1,6 +1,7 @@
 """The rules of the Python subset that can be read off the files one by one."""
 
 import ast
+import builtins
 import unittest
 import warnings
 from pathlib import Path
@@ -11,11 +12,62 @@ LIBRARY = {
     "math": {"gcd", "lcm", "isqrt", "comb", "perm", "factorial"},
     "itertools": {"product", "combinations", "permutations"},
 }
+BUILTINS = set("""
+    len range enumerate zip min max sum abs sorted reversed int str bool list tuple dict set isinstance ord repr any all
+    divmod iter next map super property staticmethod classmethod Exception ValueError TypeError KeyError IndexError
+    LookupError ZeroDivisionError ArithmeticError OverflowError RuntimeError NotImplementedError AttributeError
+    StopIteration NotImplemented
+""".split())
+METHODS_OF_BUILTINS = set("""
+    append clear copy count endswith extend find get index insert isalnum isalpha isdigit islower isspace isupper items
+    join keys ljust lower lstrip partition pop remove replace reverse rfind rjust rpartition rsplit rstrip setdefault
+    split splitlines startswith strip update upper values zfill bit_length sort title capitalize swapcase casefold
+    center expandtabs removeprefix removesuffix rindex isascii isdecimal isnumeric istitle isidentifier isprintable
+""".split())
+BARRED_NAMES = set("""
+    register mro elements open input law version_info with_traceback add_note attrgetter breakpoint builtins compile
+    copyright credits delattr dir eval exec exit gc getattr globals hasattr help id importlib license locals
+    methodcaller os quit setattr type vars sys typing typing_extensions enum Enum IntEnum StrEnum Flag IntFlag Generic
+    Protocol ABC ABCMeta namedtuple NamedTuple TypedDict TYPE_CHECKING abstractmethod dataclass overload contextmanager
+""".split())
+TAKE_NO_GENERATOR = {"any", "all", "min", "max", "sum", "sorted"}
 
 
 def files():
     """The paths of the package's files."""
     return sorted(PACKAGE.glob("*.py"))
+
+
+def trees():
+    """The name and the tree of each file."""
+    return [(path.name, ast.parse(path.read_text(encoding="utf-8"))) for path in files()]
+
+
+def nodes(kind):
+    """Each node of a kind in the package, with the place to name in a failure."""
+    return [(node, f"{name}: {ast.unparse(node)[:80]}")
+            for name, tree in trees() for node in ast.walk(tree) if isinstance(node, kind)]
+
+
+def bound_in_functions(tree):
+    """The parameters, the variables and the nested functions of a file."""
+    found = set()
+    for function in ast.walk(tree):
+        if isinstance(function, (ast.FunctionDef, ast.Lambda)):
+            for node in ast.walk(function):
+                if isinstance(node, ast.arg):
+                    found.add(node.arg)
+                elif isinstance(node, ast.Name) and isinstance(node.ctx, ast.Store):
+                    found.add(node.id)
+                elif isinstance(node, ast.FunctionDef) and node is not function:
+                    found.add(node.name)
+    return found
+
+
+def imported_and_classes(tree):
+    """The names of the imports and of the classes of a file."""
+    found = {alias.name for node in tree.body if isinstance(node, ast.ImportFrom) for alias in node.names}
+    return found | {node.name for node in tree.body if isinstance(node, ast.ClassDef)}
 
 
 class LanguageTest(unittest.TestCase):
@@ -64,6 +116,95 @@ class LanguageTest(unittest.TestCase):
         else:
             self.assertTrue(node.module.startswith("seriessquares."), name)
             self.assertNotIn("*", names, name)
+
+    def test_no_cycle_of_imports(self):
+        needs = {f"seriessquares.{name.removesuffix('.py')}": {
+            node.module for node in tree.body if isinstance(node, ast.ImportFrom)} for name, tree in trees()}
+        while needs:
+            ready = [name for name in needs if not needs[name] & set(needs)]
+            self.assertNotEqual(ready, [], f"a cycle among {sorted(needs)}")
+            needs = {name: needs[name] for name in needs if name not in ready}
+
+    def test_one_meaning_for_each_name(self):
+        for name, tree in trees():
+            bound = bound_in_functions(tree)
+            self.assertEqual(bound & imported_and_classes(tree), set(), name)
+            self.assertEqual((bound | imported_and_classes(tree)) & set(dir(builtins)), set(), name)
+            self.assertEqual((bound | imported_and_classes(tree)) & BARRED_NAMES, set(), name)
+
+    def test_only_known_names_are_read(self):
+        for name, tree in trees():
+            own = bound_in_functions(tree) | imported_and_classes(tree)
+            for node in tree.body:
+                own |= {node.name} if isinstance(node, ast.FunctionDef) else set()
+                own |= {target.id for target in node.targets} if isinstance(node, ast.Assign) else set()
+            for node in ast.walk(tree):
+                if isinstance(node, ast.Name) and isinstance(node.ctx, ast.Load):
+                    self.assertIn(node.id, own | BUILTINS, name)
+
+    def test_only_known_methods_are_called(self):
+        own = {node.name for _, tree in trees() for node in ast.walk(tree) if isinstance(node, ast.FunctionDef)}
+        for node, place in nodes(ast.Call):
+            if isinstance(node.func, ast.Attribute):
+                self.assertIn(node.func.attr, own | METHODS_OF_BUILTINS, place)
+
+    def test_no_name_is_a_method_and_an_attribute(self):
+        methods = {method.name for node, _ in nodes(ast.ClassDef) for method in node.body
+                   if isinstance(method, ast.FunctionDef) and not method.decorator_list}
+        stored = {node.attr for node, _ in nodes(ast.Attribute) if isinstance(node.ctx, ast.Store)}
+        self.assertEqual(methods & stored, set())
+
+    def test_no_float_and_no_power_but_a_literal_one(self):
+        for node, place in nodes(ast.Constant):
+            self.assertNotIsInstance(node.value, (float, complex, bytes), place)
+        for node, place in nodes(ast.BinOp):
+            self.assertNotIsInstance(node.op, (ast.Div, ast.MatMult), place)
+            if isinstance(node.op, ast.Pow):
+                self.assertIsInstance(node.right, ast.Constant, place)
+
+    def test_nothing_is_changed_in_place_by_a_sign(self):
+        # A class with += bars it from everything that an operator runs; the package does without it.
+        self.assertEqual([place for _, place in nodes(ast.AugAssign)], [])
+
+    def test_generator_expressions(self):
+        for node, place in nodes(ast.Call):
+            if isinstance(node.func, ast.Name) and node.func.id in TAKE_NO_GENERATOR:
+                self.assertFalse(any(isinstance(each, ast.GeneratorExp) for each in node.args), place)
+
+    def test_what_is_iterated_at_once(self):
+        for node, place in nodes((ast.Assign, ast.Return)):
+            if isinstance(node.value, ast.Call) and isinstance(node.value.func, ast.Name):
+                self.assertNotIn(node.value.func.id, ["zip", "enumerate", "reversed", "range", "map", "iter"], place)
+
+    def test_is_stands_beside_none_true_and_false(self):
+        for node, place in nodes(ast.Compare):
+            if any(isinstance(sign, (ast.Is, ast.IsNot)) for sign in node.ops):
+                self.assertIsInstance(node.comparators[0], ast.Constant, place)
+
+    def test_statements(self):
+        barred = (ast.Global, ast.AsyncFunctionDef, ast.AsyncFor, ast.AsyncWith, ast.Await, ast.Set, ast.SetComp)
+        self.assertEqual([place for _, place in nodes(barred)], [])
+        for node, place in nodes(ast.ExceptHandler):
+            self.assertIsNotNone(node.type, place)
+        for node, place in nodes(ast.FunctionDef):
+            decorators = [ast.unparse(each) for each in node.decorator_list]
+            self.assertLessEqual(set(decorators), {"staticmethod", "property", f"{node.name}.setter"}, place)
+        self.assertEqual([place for node, place in nodes(ast.ClassDef) if node.decorator_list], [])
+
+    def test_strings(self):
+        for node, place in nodes(ast.Constant):
+            if isinstance(node.value, str):
+                self.assertNotIn("%", node.value, place)
+
+    def test_one_binding_for_each_name_of_a_file(self):
+        for name, tree in trees():
+            bound = [alias.name for node in tree.body if isinstance(node, ast.ImportFrom) for alias in node.names]
+            for node in tree.body:
+                if isinstance(node, (ast.FunctionDef, ast.ClassDef)):
+                    bound.append(node.name)
+                elif isinstance(node, ast.Assign):
+                    bound.extend(target.id for target in node.targets)
+            self.assertEqual(len(bound), len(set(bound)), name)
 
 
 if __name__ == "__main__":
