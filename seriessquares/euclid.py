@@ -6,7 +6,7 @@ A row stands for a polynomial up to a factor that is not 0, so no step needs a f
 from math import gcd
 from seriessquares.rows import added, multiplied, trimmed
 
-# Two polynomials that have nothing in common modulo this prime have nothing in common.
+# Two polynomials that have nothing in common modulo a great prime have nothing in common at all, see below.
 SIGHTING_PRIME = 2 ** 61 - 1
 
 
@@ -24,6 +24,12 @@ def shortened(row, prime):
     """The row divided by its content."""
     common = content(row, prime)
     return [each // common for each in row]
+
+
+def shortened_pair(one, other, prime):
+    """Two rows, divided by what all integers of both have in common."""
+    common = content([*one, *other], prime)
+    return trimmed([each // common for each in one], prime), trimmed([each // common for each in other], prime)
 
 
 def division(high, low, prime):
@@ -48,10 +54,11 @@ def division(high, low, prime):
 
 def _are_seen_apart(one, other):
     """Whether the rows show modulo a prime that they have nothing in common; False leaves it open."""
-    low_one, low_other = trimmed(one, SIGHTING_PRIME), trimmed(other, SIGHTING_PRIME)
-    if len(low_one) < len(one) or len(low_other) < len(other):
+    seen = trimmed(one, SIGHTING_PRIME)
+    # If the highest term goes, so may that of a common divisor.
+    if len(seen) < len(one):
         return False
-    return len(common_row(low_one, low_other, SIGHTING_PRIME)) == 1
+    return len(common_row(seen, trimmed(other, SIGHTING_PRIME), SIGHTING_PRIME)) == 1
 
 
 def common_row(one, other, prime):
@@ -77,8 +84,7 @@ def rests(row, scale, prime):
         found.append((low, low_factor))
         times, quotient, rest = division(high, low, prime)
         before = [times * each for each in high_factor]
-        factor = trimmed(added(before, multiplied([-each for each in quotient], low_factor)), prime)
-        common = content([*rest, *factor], prime)
+        factor = added(before, multiplied([-each for each in quotient], low_factor))
         high, high_factor = low, low_factor
-        low, low_factor = [each // common for each in rest], [each // common for each in factor]
+        low, low_factor = shortened_pair(rest, factor, prime)
     return found

@@ -2,7 +2,11 @@
 
 from seriessquares.errors import NoRatio, SeriesError
 from seriessquares.fields import Field
+from seriessquares.polys import Poly
 from seriessquares.ratios import Ratio
+from seriessquares.rationals import Fraction
+from seriessquares.series import Series
+from seriessquares.squares import Square
 
 
 def no_integers():
@@ -31,3 +35,16 @@ def refused_numbers(prime):
     if prime == 0:
         return no_numbers()
     return [*no_numbers(), Ratio(1, prime), Ratio(-1, 11 * prime)]
+
+
+def other_things():
+    """Values of every kind, for questions that may be asked of anything."""
+    nested = []
+    for _ in range(50):
+        nested = [nested]
+    found = [*no_integers(), *no_sequences(), 0, 1, -1, 5, 10 ** 50, nested, {"a": [1, {2: (3, None)}]}, ValueError("x")]
+    for prime in (0, 7):
+        one = Poly(Field(prime), [1])
+        unit = Fraction(one, one)
+        found += [one, unit, Series(Field(prime), [1]), Square(0, 0, 1, True, unit), Square(None, [], "", 5, object())]
+    return found

@@ -146,3 +146,19 @@ class Chance:
     def series(self, count):
         """The first coefficients of a power series that does not begin with 0."""
         return [self.nonzero(), *[self.number() for _ in range(count - 1)]]
+
+
+def notable_rows(prime):
+    """First coefficients of power series with greater squares, long rows of zeros and early ends."""
+    plain = Plain(prime)
+    chance = Chance(prime, "notable")
+    rows = [
+        [1], [1, 0], [1, 1], [1, 0, 0, 0, 1], [1, 0, 0, 0, 0, 0, 0, 0], [1, 1, 1, 1, 1, 1], [1, 1, 0, 0, 0, 0, 0, 1],
+        [1, 0, 0, 1, 0, 0, 0, 0, 0, 0, 1, 1], [1, 1, 2, 3, 5, 8, 13, 21], [1, 1, 2, 3, 5, 8, 13, 22, 1],
+        [1, 0, 1, 0, 1, 0, 1, 0, 1, 1], [1, 2, 4, 8, 16, 32, 65, 1, 1],
+        plain.expanded([1, 1, 0, 1], [1, 0, 0, 1, 1], 14), [*plain.expanded([1, 1], [1, 0, 1, 1], 11), 0],
+        [*plain.expanded([1], [1, 0, 0, -1], 9), 0, 0, 0, 1],
+        chance.series(8), chance.series(10), chance.series(11),
+        [chance.nonzero(), 0, 0, chance.number(), 0, 0, 0, chance.number(), chance.number()],
+    ]
+    return [plain.row(row) for row in rows]

@@ -464,7 +464,10 @@ class GcdTest(Case):
         plain = Plain(0)
         self.both(plain, [1, 1], [1 + large, 1], [1])
         self.both(plain, [1, large], [1, 2 * large], [1])
-        self.both(plain, [1, 1 + large, large], [3, 1, large], plain.gcd([1, 1 + large, large], [3, 1, large]))
+        # Modulo this prime nothing is left of the highest term of the common part.
+        part = [1, large]
+        self.both(plain, plain.times(part, [1, 1]), plain.times(part, [2, 1]), plain.monic(part))
+        self.both(plain, plain.times(part, [1, 2, 1]), plain.times(part, [2, large]), plain.monic(part))
 
     def test_long_polynomials(self):
         for prime in (0, 2, 9973):

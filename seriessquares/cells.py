@@ -1,0 +1,22 @@
+"""The cells of a road, worked out as rows of integers."""
+
+from seriessquares.euclid import rests
+from seriessquares.rows import whole
+
+
+def road_rows(series, total):
+    """The unlike cells of the road of the total, from m = total on.
+
+    For each of them: the least m that it has on the road, and its top and its bottom, two rows of integers that have
+    no divisor in common but are not divided by what the bottom is at 0.
+    """
+    row, scale = whole(series.field, series.coefficients[:total + 1])
+    found = []
+    for rest, factor in rests(row, scale, series.field.prime):
+        place = 0
+        # A rest and its factor begin with as many zeros, for the series does not begin with 0; they have nothing
+        # else in common.
+        while factor[place] == 0:
+            place = place + 1
+        found.append((len(rest) - 1, rest[place:], factor[place:]))
+    return found
