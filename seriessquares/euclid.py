@@ -72,19 +72,25 @@ def common_row(one, other, prime):
     return high
 
 
+def coprime_rows(one, other, prime):
+    """Two rows without zeros at the end, not both empty, divided by all that they have in common."""
+    common = common_row(one, other, prime)
+    times, quotient, _ = division(one, common, prime)
+    other_times, other_quotient, _ = division(other, common, prime)
+    return shortened_pair([each * other_times for each in quotient], [each * times for each in other_quotient], prime)
+
+
 def rests(row, scale, prime):
-    """The rests of x ** len(row) and the polynomial row / scale, which is not 0 at 0.
+    """The rests of x ** len(row) and the polynomial row / scale, which is not 0 at 0, one after the other.
 
     Each comes as a pair (rest, factor): modulo x ** len(row), the rest is the factor times the polynomial.
     """
     high, high_factor = [*[0 for _ in row], 1], []
     low, low_factor = trimmed(row, prime), [scale]
-    found = []
     while len(low) > 0:
-        found.append((low, low_factor))
+        yield low, low_factor
         times, quotient, rest = division(high, low, prime)
         before = [times * each for each in high_factor]
         factor = added(before, multiplied([-each for each in quotient], low_factor))
         high, high_factor = low, low_factor
         low, low_factor = shortened_pair(rest, factor, prime)
-    return found

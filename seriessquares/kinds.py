@@ -11,6 +11,12 @@ def is_from_to(value, low, high):
     return is_an_integer(value) and low <= value <= high
 
 
+def are_digits(text, most):
+    """Whether the text is one of decimal digits, at most `most` of them."""
+    # isdigit alone would also take digits of other scripts.
+    return len(text) <= most and text.isascii() and text.isdigit()
+
+
 def is_a_sequence(value):
     """Whether the value is a list or a tuple."""
     return isinstance(value, (list, tuple))

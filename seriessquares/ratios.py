@@ -2,7 +2,7 @@
 
 from math import gcd
 from seriessquares.errors import NoRatio
-from seriessquares.kinds import is_an_integer
+from seriessquares.kinds import are_digits, is_an_integer
 
 MOST_DIGITS_READ = 60
 
@@ -17,11 +17,6 @@ def as_ratio(number):
     if isinstance(number, Ratio):
         return number
     return Ratio(number)
-
-
-def _is_readable(digits):
-    # isdigit alone would also take digits of other scripts.
-    return len(digits) <= MOST_DIGITS_READ and digits.isascii() and digits.isdigit()
 
 
 class Ratio:
@@ -100,7 +95,7 @@ class Ratio:
         top, slash, bottom = text.partition("/")
         if slash == "":
             bottom = "1"
-        if not (_is_readable(top.removeprefix("-")) and _is_readable(bottom)):
+        if not (are_digits(top.removeprefix("-"), MOST_DIGITS_READ) and are_digits(bottom, MOST_DIGITS_READ)):
             raise NoRatio("text")
         if int(bottom) == 0:
             raise NoRatio("text")

@@ -1,6 +1,6 @@
 """The table: cells, and the squares of the pairs that have the same cell."""
 
-from seriessquares.cells import road_rows
+from seriessquares.cells import open_rows, road_rows
 from seriessquares.errors import NoCell, NotKnown
 from seriessquares.kinds import is_an_integer, is_from_to
 from seriessquares.rationals import fraction_of
@@ -17,7 +17,7 @@ def check_pair(m, n, greatest):
         raise NoCell("n")
 
 
-def _square(series, fraction):
+def own_square(series, fraction):
     """The known square of a fraction that is a sure cell."""
     m, n = fraction.degrees
     miss = fraction.agreement(series)
@@ -30,8 +30,11 @@ def _known_square(series, m, n):
     # A known square that has (m, n) also has the pair with this m on the last road that is known as a whole; none
     # reaches beyond this road.
     total = min(m + n, series.known - 1)
-    _, top, bottom = [row for row in road_rows(series, total) if row[0] <= m][0]
-    found = _square(series, fraction_of(series.field, top, bottom))
+    for least, top, bottom in road_rows(series, total):
+        # What stands further down the road need not be worked out.
+        if least <= m:
+            break
+    found = own_square(series, fraction_of(series.field, top, bottom))
     return found if found.has(m, n) else None
 
 
@@ -59,11 +62,23 @@ def squares(series):
     """All known squares, by m + n of the corner, then by m."""
     found = []
     for total in range(series.known):
-        for _, top, bottom in reversed(road_rows(series, total)):
+        for _, top, bottom in reversed(list(road_rows(series, total))):
             # A corner lies on the road of its own total; elsewhere the square was met before.
             if len(top) - 1 + len(bottom) - 1 == total:
-                found.append(_square(series, fraction_of(series.field, top, bottom)))
+                found.append(own_square(series, fraction_of(series.field, top, bottom)))
     return found
+
+
+def _order(square):
+    """By what squares are ordered."""
+    return square.m + square.n, square.m
+
+
+def open_squares(series):
+    """The open ones of the known squares, in the order of `squares`."""
+    rows = open_rows(series)
+    found = [own_square(series, fraction_of(series.field, top, bottom)) for top, bottom in rows]
+    return sorted(found, key=_order)
 
 
 def twins(series, m, n):

@@ -1,6 +1,6 @@
 """Cells, squares and determinants in a way of the tests' own, over rows of numbers as in plain.py."""
 
-from itertools import permutations
+from itertools import permutations, product
 
 # The cells that were worked out, by the prime, m and the coefficients on which they depend.
 CELLS = {}
@@ -100,3 +100,61 @@ def eliminated(plain, rows):
 def coefficient_table(row, m, n):
     """The table with the coefficient of index m - i + j in row i and column j."""
     return [[row[m - i + j] if m - i + j >= 0 else 0 for j in range(n)] for i in range(n)]
+
+
+# What `all_fractions` has found, by its arguments.
+FRACTIONS = {}
+
+
+def all_fractions(plain, m, n, count):
+    """All fractions within (m, n) modulo a small prime: (top, bottom) in lowest terms, with `count` coefficients."""
+    key = (plain.prime, m, n, count)
+    if key not in FRACTIONS:
+        found = {}
+        for bottom in product(range(plain.prime), repeat=n):
+            for top in product(range(plain.prime), repeat=m + 1):
+                if any(top):
+                    pair = plain.lowest(plain.trim(top), plain.trim([1, *bottom]))
+                    found[tuple(map(tuple, pair))] = plain.expanded(list(top), [1, *bottom], count)
+        FRACTIONS[key] = found
+    return FRACTIONS[key]
+
+
+def solution(plain, rows, rights):
+    """A list of numbers that solves the linear equations, or None if there is none."""
+    rows = [plain.row([*row, right]) for row, right in zip(rows, rights)]
+    width = len(rows[0]) - 1 if rows else 0
+    pivots = []
+    for column in range(width):
+        place = next((k for k in range(len(pivots), len(rows)) if rows[k][column] != 0), None)
+        if place is None:
+            continue
+        rows[len(pivots)], rows[place] = rows[place], rows[len(pivots)]
+        lead = plain.row([each * plain.inverse(rows[len(pivots)][column]) for each in rows[len(pivots)]])
+        rows[len(pivots)] = lead
+        for k in range(len(rows)):
+            if k != len(pivots):
+                rows[k] = plain.row([a - rows[k][column] * b for a, b in zip(rows[k], lead)])
+        pivots.append(column)
+    if any(row[-1] != 0 for row in rows[len(pivots):]):
+        return None
+    found = [plain.number(0)] * width
+    for k, column in enumerate(pivots):
+        found[column] = rows[k][-1]
+    return found
+
+
+def length(plain, row):
+    """The least length of a recurrence, from the linear equations for its numbers."""
+    for many in range(1, len(row)):
+        places = range(many, len(row))
+        rows = [[row[k - j] for j in range(1, many + 1)] for k in places]
+        if solution(plain, rows, [row[k] for k in places]) is not None:
+            return many
+    return len(row)
+
+
+def is_recurrence(plain, row, numbers):
+    """Whether each coefficient from the index len(numbers) on is as the recurrence tells."""
+    return all(row[k] == plain.number(sum(r * row[k - j] for j, r in enumerate(numbers, 1)))
+               for k in range(len(numbers), len(row)))

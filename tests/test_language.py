@@ -61,6 +61,8 @@ def bound_in_functions(tree):
                     found.add(node.id)
                 elif isinstance(node, ast.FunctionDef) and node is not function:
                     found.add(node.name)
+                elif isinstance(node, ast.ExceptHandler) and node.name is not None:
+                    found.add(node.name)
     return found
 
 
@@ -175,6 +177,28 @@ class LanguageTest(unittest.TestCase):
         for node, place in nodes((ast.Assign, ast.Return)):
             if isinstance(node.value, ast.Call) and isinstance(node.value.func, ast.Name):
                 self.assertNotIn(node.value.func.id, ["zip", "enumerate", "reversed", "range", "map", "iter"], place)
+
+    def test_generators_are_iterated_at_once(self):
+        called = {"list", "tuple", "dict", "sorted", "sum", "min", "max", "any", "all", "enumerate", "zip"}
+        generators = {function.name for function, _ in nodes(ast.FunctionDef)
+                      if any(isinstance(each, (ast.Yield, ast.YieldFrom)) for each in ast.walk(function))}
+        functions = [function.name for function, _ in nodes(ast.FunctionDef)]
+        self.assertEqual([name for name in generators if functions.count(name) > 1], [])
+        self.assertEqual(generators & METHODS_OF_BUILTINS, set())
+        iterated = set()
+        for node, _ in nodes((ast.For, ast.comprehension, ast.YieldFrom, ast.Call)):
+            if isinstance(node, (ast.For, ast.comprehension)):
+                iterated.add(ast.dump(node.iter))
+            elif isinstance(node, ast.YieldFrom):
+                iterated.add(ast.dump(node.value))
+            elif isinstance(node.func, ast.Name) and node.func.id in called and node.args:
+                iterated.add(ast.dump(node.args[0]))
+        for node, place in nodes(ast.Call):
+            name = node.func.attr if isinstance(node.func, ast.Attribute) else getattr(node.func, "id", "")
+            if name in generators:
+                self.assertIn(ast.dump(node), iterated, place)
+                for argument in node.args:
+                    self.assertIsInstance(argument, (ast.Name, ast.Attribute, ast.Constant), place)
 
     def test_is_stands_beside_none_true_and_false(self):
         for node, place in nodes(ast.Compare):
