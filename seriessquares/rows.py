@@ -65,6 +65,16 @@ def multiplied(ones, others):
     return found
 
 
+def scaled_row(field, row, number):
+    """The numbers of the row, each multiplied by the number to the power of its index."""
+    power = field.number(1)
+    found = []
+    for each in row:
+        found.append(field.number(each * power))
+        power = field.number(power * number)
+    return found
+
+
 def convolved(ones, others, index):
     """The coefficient of this index of the product of two rows; the second one reaches at least to the index."""
     return sum([ones[k] * others[index - k] for k in range(min(index + 1, len(ones)))])

@@ -5,7 +5,7 @@ from seriessquares.fields import check_same_field
 from seriessquares.kinds import is_a_sequence, is_from_to
 from seriessquares.ratios import is_number
 from seriessquares.ready import Ready
-from seriessquares.rows import multiplied, numbers_of, power_series, taken, whole
+from seriessquares.rows import multiplied, numbers_of, power_series, scaled_row, taken, whole
 
 MOST_PASSED = 32
 MOST_KNOWN = 79
@@ -101,12 +101,7 @@ class Series:
         number = self.field.number(t)
         if number == 0:
             raise NoNumber()
-        power = self.field.number(1)
-        row = []
-        for coefficient in self.coefficients:
-            row.append(self.field.number(coefficient * power))
-            power = self.field.number(power * number)
-        return Series(self.field, Ready(row))
+        return Series(self.field, Ready(scaled_row(self.field, self.coefficients, number)))
 
     def bent(self, t):
         """The series of f(x / (1 + t x))."""

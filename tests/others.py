@@ -1,10 +1,15 @@
 """Values of kinds that a test passes where a point names an error or asks whether something is so."""
 
-from seriessquares.errors import NoRatio, SeriesError
+from seriessquares.desk import Desk
+from seriessquares.errors import NoCell, NoRatio, SeriesError
 from seriessquares.fields import Field
+from seriessquares.images import Moebius
+from seriessquares.points import Passage
 from seriessquares.polys import Poly
 from seriessquares.ratios import Ratio
 from seriessquares.rationals import Fraction
+from seriessquares.reader import Reader
+from seriessquares.roads import Stretch
 from seriessquares.series import Series
 from seriessquares.squares import Square
 
@@ -46,5 +51,7 @@ def other_things():
     for prime in (0, 7):
         one = Poly(Field(prime), [1])
         unit = Fraction(one, one)
-        found += [one, unit, Series(Field(prime), [1]), Square(0, 0, 1, True, unit), Square(None, [], "", 5, object())]
+        found += [one, unit, Series(Field(prime), [1]), Square(0, 0, 1, True, unit), Square(None, [], "", 5, object()),
+                  Stretch(0, 0, unit), Passage(one, one, ()), Passage(None, [], {}), Moebius(Field(prime), 1, 0, 0, 1),
+                  Reader(Field(prime)), Desk(prime), NoCell("m")]
     return found
