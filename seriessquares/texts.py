@@ -69,26 +69,25 @@ def read_number(field, text):
     return number
 
 
-def _place(text):
-    """The power that stands behind the number of a term; -1 if none does."""
+def _power(text):
+    """The power that stands behind the number of a term; it raises NoText."""
     if text == "":
         return 0
     if text == "x":
         return 1
     digits = text.removeprefix("x^")
     # The greatest power has two digits.
-    return int(digits) if are_digits(digits, 2) else -1
+    if not are_digits(digits, 2):
+        raise NoText("poly")
+    return int(digits)
 
 
 def _read_terms(field, text):
     """The coefficients of the terms of a text, whatever their order; it raises NoText."""
     numbers = [0 for _ in range(Poly.MOST)]
     for term in text.replace(" - ", " + -").split(" + "):
-        number, _, place = term.partition("*")
-        power = _place(place)
-        if power < 0:
-            raise NoText("poly")
-        numbers[power] = read_number(field, number)
+        number, _, rest = term.partition("*")
+        numbers[_power(rest)] = read_number(field, number)
     return numbers
 
 

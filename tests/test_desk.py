@@ -151,7 +151,7 @@ class NoLineTest(DeskCase):
     def test_lines_of_no_form(self):
         good = ["take 1", "try 1", "back", "cell 0 0", "square 0 0", "fit 0 0", "length", "outlook", "expected", "series",
                 "undo", "redo"]
-        wrong = ["", " ", "  ", "cell", "cell 0", "square", "square 0", "fit", "fit 0", "take", "try", "cells 0 0", "close",
+        wrong = ["", " ", "  ", "take ", "try ", " take", "cell ", "cell 0 ", "back ", "   ", "take  ", "cell", "cell 0", "square", "square 0", "fit", "fit 0", "take", "try", "cells 0 0", "close",
                  "fitting 0 0", "taken 1", "journal", "tell", "numbers", "take1", "cell0 0", "cell 0,0", "expect", "un do",
                  "any", "closed 0", "take\n1", "back\n", "length.", "\"series\"", "prime", "simplest", "quit", "0 0 cell"]
         for line in good:
