@@ -215,6 +215,17 @@ class LanguageTest(unittest.TestCase):
             self.assertLessEqual(set(decorators), {"staticmethod", "property", f"{node.name}.setter"}, place)
         self.assertEqual([place for node, place in nodes(ast.ClassDef) if node.decorator_list], [])
 
+    def test_the_end_of_a_block_only_assigns_attributes(self):
+        for node, place in nodes(ast.FunctionDef):
+            if node.name == "__exit__":
+                for row in node.body:
+                    self.assertIsInstance(row, ast.Assign, place)
+                    self.assertTrue(all(isinstance(each, ast.Attribute) for each in [*row.targets, row.value]), place)
+
+    def test_operators_of_objects_stand_as_signs(self):
+        called = [node.func.attr for node, _ in nodes(ast.Call) if isinstance(node.func, ast.Attribute)]
+        self.assertEqual([name for name in called if name.startswith("__")], [])
+
     def test_strings(self):
         for node, place in nodes(ast.Constant):
             if isinstance(node.value, str):
